@@ -1,0 +1,1 @@
+"""Grantroll: which rolls of passed-on rights can be told apart, and by whom."""

@@ -1,0 +1,64 @@
+"""The examples of the document for what has landed, and those of README.md."""
+
+import doctest
+import unittest
+from pathlib import Path
+
+EXAMPLES = {
+    'grants': """
+    >>> from grantroll.grants import grant_error, supports
+    >>> [grant_error((1, 'ann', 'ann', 5, 2)), supports((1, 'ann', 'bo', 5, 2), (2, 'bo', 'cy', 3, 1))]
+    [('same',), True]
+    """,
+    'rolls': """
+    >>> from grantroll.rolls import Roll
+    >>> grants = [(1, 'ann', 'bo', 5, 2), (1, 'bo', 'di', 2, 0), (2, 'bo', 'cy', 3, 1), (3, 'cy', 'di', 3, 0)]
+    >>> roll = Roll('ann', grants=grants)
+    >>> [roll.owners, roll.persons, len(roll), len(roll.only(grants[:2])), None in roll]
+    [('ann',), ('bo', 'cy', 'di'), 4, 2, False]
+    """,
+    'counting': """
+    >>> from grantroll.counting import chains, counts, why
+    >>> from grantroll.rolls import Roll
+    >>> grants = [(1, 'ann', 'bo', 5, 2), (1, 'bo', 'di', 2, 0), (2, 'bo', 'cy', 3, 1), (3, 'cy', 'di', 3, 0)]
+    >>> roll = Roll('ann', grants=grants)
+    >>> [counts(roll, grants[1]), list(chains(roll, grants[2])), why(roll, grants[1])[0]]
+    [False, [[(1, 'ann', 'bo', 5, 2), (2, 'bo', 'cy', 3, 1)]], 'closed']
+    """,
+    'operators': """
+    >>> from grantroll.rolls import Roll
+    >>> grants = [(1, 'ann', 'bo', 5, 2), (1, 'bo', 'di', 2, 0), (2, 'bo', 'cy', 3, 1), (3, 'cy', 'di', 3, 0)]
+    >>> roll = Roll('ann', grants=grants)
+    >>> less = roll.only(grants[:3])
+    >>> (roll - less).grants
+    ((3, 'cy', 'di', 3, 0),)
+    """,
+    'texts': """
+    >>> from grantroll.rolls import Roll
+    >>> roll = Roll.read('owners ann\\n1 ann bo 5 2')
+    >>> [roll.grants, str(roll)]
+    [((1, 'ann', 'bo', 5, 2),), 'owners ann\\n1 ann bo 5 2']
+    """,
+}
+
+
+class ExamplesTest(unittest.TestCase):
+    def run_examples(self, name, text):
+        examples = doctest.DocTestParser().get_doctest(text, {}, name, name, 0)
+        report = []
+        result = doctest.DocTestRunner(verbose=False).run(examples, out=report.append)
+        self.assertGreater(result.attempted, 0)
+        self.assertEqual(result.failed, 0, ''.join(report))
+
+    def test_examples_of_the_document(self):
+        for name, text in EXAMPLES.items():
+            with self.subTest(name):
+                self.run_examples(name, text)
+
+    def test_examples_of_the_readme(self):
+        readme = Path(__file__).resolve().parent.parent / 'README.md'
+        self.run_examples('README.md', readme.read_text())
+
+
+if __name__ == '__main__':
+    unittest.main()
