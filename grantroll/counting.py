@@ -1,6 +1,7 @@
 """Which grants of a roll count, and what shows it."""
 
 from grantroll.grants import GIVER, backs
+from grantroll.plain import is_ascending
 from grantroll.rolls import need_grant
 
 
@@ -84,7 +85,7 @@ def is_part(roll, value):
     """Whether the value is an ascending list of grants of the roll, none of them twice."""
     if not isinstance(value, list) or not all([entry in roll for entry in value]):
         return False
-    return all([first < second for first, second in zip(value, value[1:])])
+    return is_ascending(value)
 
 
 def is_closed(roll, part):

@@ -3,8 +3,10 @@
 from grantroll.errors import InvalidGrant
 from grantroll.plain import is_name, is_time, is_within
 
+TIME = 0
 GIVER = 1
 TAKER = 2
+LEVEL = 3
 ENTRIES = 5
 LEAST_LEVEL = 1
 MOST_LEVEL = 9

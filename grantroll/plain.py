@@ -1,5 +1,7 @@
 """Plain values: integers that are no booleans, times and names."""
 
+from grantroll.errors import InvalidName
+
 MOST_TIME = 10 ** 30
 MOST_LETTERS = 8
 
@@ -24,3 +26,14 @@ def is_name(value):
     if not isinstance(value, str) or not 1 <= len(value) <= MOST_LETTERS:
         return False
     return all(["a" <= letter <= "z" for letter in value])
+
+
+def need_name(value):
+    """Raises InvalidName if the value is not a name."""
+    if not is_name(value):
+        raise InvalidName("not a name")
+
+
+def is_ascending(values):
+    """Whether the values ascend, with none of them twice."""
+    return all([first < second for first, second in zip(values, values[1:])])

@@ -16,6 +16,9 @@ ODD_VALUES = [
 ]
 
 
+HISTORY = [(1, 'ann', 'bo', 5, 3), (2, 'bo', 'cy', 4, 2), (3, 'ann', 'cy', 2, 2), (5, 'cy', 'di', 2, 1)]
+
+
 def deep_value():
     """A value that is nested 50 levels deep."""
     value = ()
@@ -24,8 +27,23 @@ def deep_value():
     return value
 
 
+# The kinds of wrong arguments that the document names, and some that are just outside of what it allows.
+NOT_NAMES = [value for value in ODD_VALUES if value != 'ann'] + [
+    deep_value(), 'Ann', 'an n', 'ann1', 'abcdefghi', ' ann', ['ann'], ('ann',), {'ann': 'ann'}]
+NOT_POWERS = [value for value in ODD_VALUES if value != (1, 2)] + [
+    deep_value(), (0, 0), (10, 0), (1, -1), (1, 21), (True, 1), (1, False), (1, 1, 1), [1, 1], ('1', 1), (1, None),
+    (1, '1'), (None, 1), ((1, 1),), {1: 1}]
+NOT_TIMES = [True, False, 10 ** 30 + 1, -10 ** 30 - 1, 10 ** 999, -10 ** 999, '', '1', 'ann', (), [], (1,), [1], {},
+             deep_value()]
+NOT_LISTS = [None, True, 0, 7, 10 ** 999, '', 'ann', {}, {(1, 'ann', 'bo', 5, 2): 1}]
+
+
 def four_roll():
     return Roll('ann', grants=FOUR)
+
+
+def history_roll():
+    return Roll('ann', grants=HISTORY)
 
 
 def person(number):
@@ -65,6 +83,45 @@ def random_rolls(many, most, seed=1):
     return rolls
 
 
+def dense_rolls(many, most, seed=1):
+    """Small rolls in which most grants count and many of them have several chains, by a fixed seed."""
+    chance = random.Random(seed)
+    names = ['ann', 'bo', 'cy', 'di', 'ed']
+    rolls = []
+    for _ in range(many):
+        grants = {}
+        for _ in range(chance.randint(most // 2, most)):
+            time = chance.randint(1, 9)
+            giver = 'ann' if chance.random() < 0.9 - time / 5 else chance.choice(names[1:])
+            taker = chance.choice([name for name in names[1:] if name != giver])
+            grants[(time, giver, taker, chance.choice([2, 2, 2, 2, 3, 1]),
+                    11 - time - chance.choice([0, 0, 0, 1]))] = True
+        rolls.append(Roll('ann', grants=list(grants)))
+    return rolls
+
+
+def braided_rolls(many, most, seed=1):
+    """Small rolls in which rights go on from one person to later ones, on ways that part and meet again."""
+    chance = random.Random(seed)
+    rolls = []
+    for _ in range(many):
+        grants = {(0, 'ann', person(1), 3, 20): True}
+        for _ in range(chance.randint(most // 2, most)):
+            giver = chance.randint(1, 7)
+            taker = chance.randint(giver + 1, min(giver + 3, 8))
+            name = 'ann' if chance.random() < 0.05 else person(giver)
+            time = 2 * giver + chance.choice([0, 0, 0, 1, 2])
+            grants[(time, name, person(taker), chance.choice([2, 2, 2, 1]),
+                    20 - giver - chance.choice([0, 0, 1]))] = True
+        rolls.append(Roll('ann', grants=list(grants)))
+    return rolls
+
+
+def parts_of(grants):
+    """Every list of some of these grants, in their order."""
+    return [list(some) for size in range(len(grants) + 1) for some in combinations(grants, size)]
+
+
 def plainly_supports(first, second):
     """What the document says of supporting, entry by entry."""
     return (first[2] == second[1] and first[0] < second[0]
@@ -92,3 +149,30 @@ def all_closed_sets(roll):
             if all(grant in some for grant in forced):
                 found.append(list(some))
     return found
+
+
+def plainly_counting(owners, grants):
+    """The grants of these that count, ascending, found by going over all of them until none is added."""
+    held = []
+    more = True
+    while more:
+        more = [grant for grant in grants if grant not in held
+                and (grant[1] in owners or any(plainly_supports(member, grant) for member in held))]
+        held = held + more
+    return sorted(held)
+
+
+def chains_back(roll, grant):
+    """Every chain for the grant, found by going back from its end."""
+    if grant[1] in roll.owners:
+        return [[grant]]
+    return [way + [grant] for earlier in roll.grants if plainly_supports(earlier, grant)
+            for way in chains_back(roll, earlier)]
+
+
+def check_error(test, error, calls):
+    """Each of the calls raises just this error."""
+    for call in calls:
+        with test.assertRaises(error) as caught:
+            call()
+        test.assertIs(type(caught.exception), error)

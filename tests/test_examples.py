@@ -25,6 +25,38 @@ EXAMPLES = {
     >>> [counts(roll, grants[1]), list(chains(roll, grants[2])), why(roll, grants[1])[0]]
     [False, [[(1, 'ann', 'bo', 5, 2), (2, 'bo', 'cy', 3, 1)]], 'closed']
     """,
+    'powers': """
+    >>> from grantroll.powers import has, powers_of, since, steps_of
+    >>> from grantroll.rolls import Roll
+    >>> grants = [(1, 'ann', 'bo', 5, 2), (1, 'bo', 'di', 2, 0), (2, 'bo', 'cy', 3, 1), (3, 'cy', 'di', 3, 0)]
+    >>> roll = Roll('ann', grants=grants)
+    >>> [powers_of(roll, 'cy'), since(roll, 'di', (3, 0)), has(roll, 'di', (3, 0), at=2), steps_of(roll, 'bo')]
+    [[(3, 1)], 3, False, [(1, [(5, 2)])]]
+    """,
+    'revoking': """
+    >>> from grantroll.revoking import lost_by, lost_powers, without
+    >>> from grantroll.rolls import Roll
+    >>> grants = [(1, 'ann', 'bo', 5, 3), (2, 'bo', 'cy', 4, 2), (3, 'ann', 'cy', 2, 2), (5, 'cy', 'di', 2, 1)]
+    >>> roll = Roll('ann', grants=grants)
+    >>> [lost_by(roll, grants[:1]), lost_powers(roll, grants[:1]), len(without(roll, grants[1:2]))]
+    [[(2, 'bo', 'cy', 4, 2)], [('bo', 5, 3), ('cy', 4, 2)], 3]
+    """,
+    'hanging': """
+    >>> from grantroll.hanging import hanging, hanging_persons
+    >>> from grantroll.rolls import Roll
+    >>> grants = [(1, 'ann', 'bo', 5, 3), (2, 'bo', 'cy', 4, 2), (3, 'ann', 'cy', 2, 2), (5, 'cy', 'di', 2, 1)]
+    >>> roll = Roll('ann', grants=grants)
+    >>> [hanging(roll, grants[3]), hanging(roll, grants[1]), hanging_persons(roll, grants[3])]
+    [[(5, 'cy', 'di', 2, 1)], [(1, 'ann', 'bo', 5, 3), (2, 'bo', 'cy', 4, 2)], ['cy']]
+    """,
+    'strength': """
+    >>> from grantroll.strength import keeps, strength
+    >>> from grantroll.rolls import Roll
+    >>> grants = [(1, 'ann', 'bo', 5, 3), (2, 'bo', 'cy', 4, 2), (3, 'ann', 'cy', 2, 2), (5, 'cy', 'di', 2, 1)]
+    >>> roll = Roll('ann', grants=grants)
+    >>> [[len(part) for part in strength(roll, 'cy', (2, 2))], keeps(roll, 'di', (1, 0), 1)]
+    [[2, 2], False]
+    """,
     'operators': """
     >>> from grantroll.rolls import Roll
     >>> grants = [(1, 'ann', 'bo', 5, 2), (1, 'bo', 'di', 2, 0), (2, 'bo', 'cy', 3, 1), (3, 'cy', 'di', 3, 0)]

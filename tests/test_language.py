@@ -30,6 +30,10 @@ INTERFACE = {
     'rolls': ['Roll'],
     'counting': ['counts', 'counting_grants', 'chains', 'chain_count', 'why', 'shows'],
     'errors': ['GrantrollError'],
+    'powers': ['has', 'powers_of', 'since', 'steps_of', 'holders'],
+    'revoking': ['without', 'shortest', 'lost_by', 'lost_powers'],
+    'hanging': ['hanging', 'hanging_tree', 'hanging_paper', 'check_hanging', 'hanging_persons'],
+    'strength': ['strength', 'check_strength', 'keeps'],
 }
 # Some of these the rules allow, each with many conditions: the package does without them.
 BARRED_NODES = (ast.Set, ast.SetComp, ast.AsyncFunctionDef, ast.Await, ast.Global, ast.Try, ast.Match, ast.With,
