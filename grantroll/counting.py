@@ -10,14 +10,24 @@ def is_of_owner(roll, grant):
     return grant[GIVER] in roll.owners
 
 
-def counting_grants(roll):
-    """The ascending list of the grants that count."""
+def counts_beside(owners, held, grant):
+    """Whether the grant counts where just these others do: one of an owner, or one that they support."""
+    return grant[GIVER] in owners or any([backs(earlier, grant) for earlier in held])
+
+
+def counting_among(owners, grants):
+    """The list of those that count if these, which are ascending, are all grants there are."""
     found = []
-    for grant in roll.grants:
+    for grant in grants:
         # What supports a grant has a smaller time, so it was looked at before.
-        if is_of_owner(roll, grant) or any([backs(earlier, grant) for earlier in found]):
+        if counts_beside(owners, found, grant):
             found.append(grant)
     return found
+
+
+def counting_grants(roll):
+    """The ascending list of the grants that count."""
+    return counting_among(roll.owners, roll.grants)
 
 
 def counts(roll, grant):
@@ -90,11 +100,8 @@ def is_part(roll, value):
 
 def is_closed(roll, part):
     """Whether the list of grants of the roll is a closed set."""
-    for grant in roll.grants:
-        forced = is_of_owner(roll, grant) or any([backs(member, grant) for member in part])
-        if forced and grant not in part:
-            return False
-    return True
+    forced = [grant for grant in roll.grants if counts_beside(roll.owners, part, grant)]
+    return all([grant in part for grant in forced])
 
 
 def shows(roll, grant, value):

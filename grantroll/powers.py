@@ -47,6 +47,17 @@ def top_powers(held, name, at):
     return sorted(set([pair for pair in pairs if not any([more != pair and covers(more, pair) for more in pairs])]))
 
 
+def difference(mine, theirs):
+    """A (person, time) at which two lists of grants that count give different maximal powers, or None."""
+    # The powers of a person change only at the times of grants to this person.
+    for grant in mine + theirs:
+        name = grant[TAKER]
+        time = grant[TIME]
+        if top_powers(mine, name, time) != top_powers(theirs, name, time):
+            return (name, time)
+    return None
+
+
 def has(roll, name, power, *, at=None):
     """Whether the person has the power at the time, or at the end if `at` is None."""
     need_name(name)

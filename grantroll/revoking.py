@@ -1,7 +1,6 @@
 """Revoking: what remains of a roll when grants are taken out, and what is lost."""
 
-from grantroll.counting import counting_grants, is_of_owner
-from grantroll.grants import backs
+from grantroll.counting import counting_grants, counts_beside
 from grantroll.powers import covers, top_powers
 from grantroll.rolls import chosen_grants
 
@@ -16,10 +15,8 @@ def without(roll, grants):
 def shortest(roll, grants):
     """The least of all lists of grants that lead to the same roll as taking out these, in ascending order."""
     left = without(roll, grants).grants
-    held = counting_grants(roll)
-    # The others are gone anyway, or were never there.
-    return [grant for grant in chosen_grants(roll, grants)
-            if grant in held and (is_of_owner(roll, grant) or any([backs(earlier, grant) for earlier in left]))]
+    # What they support counts in the roll too; the others are gone anyway, or were never there.
+    return [grant for grant in chosen_grants(roll, grants) if counts_beside(roll.owners, left, grant)]
 
 
 def lost_by(roll, grants):

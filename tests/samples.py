@@ -117,6 +117,22 @@ def braided_rolls(many, most, seed=1):
     return rolls
 
 
+def circling_rolls(many, most, seed=1):
+    """Small rolls in which rights come back to those who had them before, so that many grants are idle."""
+    chance = random.Random(seed)
+    names = ['bo', 'cy', 'di', 'ed']
+    rolls = []
+    for _ in range(many):
+        grants = {(0, 'ann', 'bo', 3, 20): True}
+        for time in range(1, most):
+            giver = 'ann' if chance.random() < 0.1 else chance.choice([grant[2] for grant in grants])
+            taker = chance.choice([name for name in names if name != giver])
+            grants[(time - chance.choice([0, 0, 1]), giver, taker, chance.choice([2, 2, 2, 1, 3]),
+                    20 - time - chance.choice([0, 0, 1]))] = True
+        rolls.append(Roll('ann', grants=list(grants)))
+    return rolls
+
+
 def parts_of(grants):
     """Every list of some of these grants, in their order."""
     return [list(some) for size in range(len(grants) + 1) for some in combinations(grants, size)]
@@ -176,3 +192,33 @@ def check_error(test, error, calls):
         with test.assertRaises(error) as caught:
             call()
         test.assertIs(type(caught.exception), error)
+
+
+def pairs_of_rolls(many, most, seed=1):
+    """Pairs of small rolls with the same owners and mostly the same grants, by a fixed seed."""
+    chance = random.Random(seed)
+    each = many // 4 + 1
+    wholes = [roll for kind in (random_rolls, dense_rolls, braided_rolls, circling_rolls)
+              for roll in kind(each, most, seed)]
+    pairs = []
+    for whole in wholes:
+        # In a part of the pairs nearly all grants are common, so that all answers occur.
+        common = chance.choice([0.6, 0.85, 0.95])
+        sides = [chance.choice([0, 1]) if chance.random() > common else 2 for _ in whole.grants]
+        pairs.append(tuple(whole.only([grant for grant, side in zip(whole.grants, sides) if side in (2, place)])
+                           for place in (0, 1)))
+    return pairs
+
+
+def plain_powers(owners, grants, name, time):
+    """The maximal powers of a person who is no owner at the time, if these are all grants."""
+    pairs = {grant[3:] for grant in plainly_counting(owners, grants) if grant[2] == name and grant[0] <= time}
+    return sorted(pair for pair in pairs
+                  if not [more for more in pairs if more != pair and more[0] >= pair[0] and more[1] >= pair[1]])
+
+
+def powers_differ(owners, mine, theirs):
+    """Whether two lists of grants give somebody different maximal powers at some time."""
+    places = {(grant[2], time[0]) for grant in mine + theirs for time in mine + theirs}
+    held = plainly_counting(owners, mine), plainly_counting(owners, theirs)
+    return any(plain_powers(owners, held[0], *place) != plain_powers(owners, held[1], *place) for place in places)

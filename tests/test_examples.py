@@ -57,13 +57,57 @@ EXAMPLES = {
     >>> [[len(part) for part in strength(roll, 'cy', (2, 2))], keeps(roll, 'di', (1, 0), 1)]
     [[2, 2], False]
     """,
-    'operators': """
+    'cores': """
+    >>> from grantroll.cores import core, same_under_revoking, useful_paper
+    >>> from grantroll.rolls import Roll
+    >>> grants = [(1, 'ann', 'bo', 5, 3), (2, 'bo', 'cy', 4, 2), (3, 'ann', 'cy', 2, 2), (5, 'cy', 'di', 2, 1)]
+    >>> roll = Roll('ann', grants=grants)
+    >>> wide = Roll('ann', grants=grants + [(6, 'di', 'cy', 1, 0)])
+    >>> [core(wide) == grants, same_under_revoking(wide, roll), useful_paper(wide, (6, 'di', 'cy', 1, 0))[0]]
+    [True, None, 'idle']
+    """,
+    'standing': """
+    >>> from grantroll.standing import build_orders, minimal_sets, standing_at, standing_count
+    >>> from grantroll.rolls import Roll
+    >>> grants = [(1, 'ann', 'bo', 5, 3), (2, 'bo', 'cy', 4, 2), (3, 'ann', 'cy', 2, 2), (5, 'cy', 'di', 2, 1)]
+    >>> roll = Roll('ann', grants=grants)
+    >>> [standing_count(roll), build_orders(roll), [len(some) for some in minimal_sets(roll, grants[3])],
+    ...  standing_at(roll, 1)]
+    [10, 7, [3, 2], [(1, 'ann', 'bo', 5, 3)]]
+    """,
+    'joins': """
+    >>> from grantroll.joins import adding_tells, later_grant, same_under_adding
     >>> from grantroll.rolls import Roll
     >>> grants = [(1, 'ann', 'bo', 5, 2), (1, 'bo', 'di', 2, 0), (2, 'bo', 'cy', 3, 1), (3, 'cy', 'di', 3, 0)]
     >>> roll = Roll('ann', grants=grants)
     >>> less = roll.only(grants[:3])
-    >>> (roll - less).grants
-    ((3, 'cy', 'di', 3, 0),)
+    >>> [later_grant(roll, less, 'ed'), adding_tells(roll, less, same_under_adding(roll, less)), (roll - less).grants]
+    [None, True, ((3, 'cy', 'di', 3, 0),)]
+    """,
+    'adding': """
+    >>> from grantroll.joins import adding_tells
+    >>> from grantroll.rolls import Roll
+    >>> one = Roll('ann', grants=[(2, 'bo', 'cy', 1, 0)])
+    >>> adding_tells(one, Roll('ann'), ([(1, 'ann', 'bo', 1, 1)], 'cy', 2))
+    True
+    """,
+    'ledger': """
+    >>> from grantroll.ledger import Ledger
+    >>> ledger = Ledger('ann')
+    >>> first = ledger.give('ann', 'bo', 5, 2)
+    >>> second = ledger.give('bo', 'cy', 3, 1)
+    >>> [ledger.revoke(first), ledger.now, ledger.roll.grants, ledger.log[2]]
+    [[(1, 'ann', 'bo', 5, 2), (2, 'bo', 'cy', 3, 1)], 3, (), ('revoke', (1, 'ann', 'bo', 5, 2))]
+    """,
+    'attempt': """
+    >>> from grantroll.errors import NotCounting
+    >>> from grantroll.ledger import Ledger
+    >>> ledger = Ledger('ann')
+    >>> try:
+    ...     ledger.attempt([('give', 'ann', 'bo', 5, 2), ('give', 'cy', 'di', 1, 0)])
+    ... except NotCounting as error:
+    ...     print(f'raises NotCounting(grant={error.grant})')
+    raises NotCounting(grant=(2, 'cy', 'di', 1, 0))
     """,
     'texts': """
     >>> from grantroll.rolls import Roll

@@ -34,6 +34,12 @@ INTERFACE = {
     'revoking': ['without', 'shortest', 'lost_by', 'lost_powers'],
     'hanging': ['hanging', 'hanging_tree', 'hanging_paper', 'check_hanging', 'hanging_persons'],
     'strength': ['strength', 'check_strength', 'keeps'],
+    'cores': ['core', 'useful_paper', 'check_useful', 'alike_paper', 'check_alike', 'gives_no_more',
+              'same_under_revoking', 'separates'],
+    'standing': ['is_standing', 'standing_part', 'standing_at', 'standing_count', 'standing_index', 'build_orders',
+                 'minimal_sets'],
+    'joins': ['later_grant', 'same_under_adding', 'same_always', 'adding_tells', 'always_tells'],
+    'ledger': ['Ledger'],
 }
 # Some of these the rules allow, each with many conditions: the package does without them.
 BARRED_NODES = (ast.Set, ast.SetComp, ast.AsyncFunctionDef, ast.Await, ast.Global, ast.Try, ast.Match, ast.With,

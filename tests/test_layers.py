@@ -3,12 +3,19 @@
 import time
 import unittest
 
+from grantroll.cores import (alike_paper, check_alike, check_useful, core, gives_no_more, same_under_revoking,
+                             separates, useful_paper)
+from grantroll.errors import TooMany
 from grantroll.hanging import check_hanging, hanging, hanging_paper, hanging_persons, hanging_tree
+from grantroll.joins import adding_tells, always_tells, later_grant, same_always, same_under_adding
+from grantroll.ledger import Ledger
 from grantroll.powers import has, holders, powers_of, since, steps_of
 from grantroll.revoking import lost_by, lost_powers, shortest, without
 from grantroll.rolls import Roll
+from grantroll.standing import (build_orders, is_standing, minimal_sets, standing_at, standing_count, standing_index,
+                                standing_part)
 from grantroll.strength import check_strength, keeps, strength
-from tests.samples import layered_roll, layers, person
+from tests.samples import check_error, layered_roll, layers, person
 
 ROWS = layers()
 
@@ -97,6 +104,80 @@ class LayersTest(unittest.TestCase):
                              [True, True, False, False])
             self.assertEqual(len(strength(self.roll, name, power, at=3 * layer)[0]), 1)
             self.assertIs(keeps(self.roll, name, power, 1, at=3 * layer), False)
+
+    def test_the_core(self):
+        everything = list(self.roll.grants)
+        self.assertEqual(core(self.roll), everything)
+        for grant in everything[::7]:
+            paper = useful_paper(self.roll, grant)
+            self.assertEqual([paper[0], check_useful(self.roll, grant, paper)], ['useful', None])
+        for row in ROWS:
+            rest = self.roll.only([grant for grant in everything if grant not in row[1:]])
+            self.assertIsNone(gives_no_more(rest, self.roll))
+            found = same_under_revoking(rest, self.roll)
+            self.assertEqual(found[-1], row[1])
+            self.assertIs(separates(rest, self.roll, found), True)
+            self.assertIs(separates(rest, self.roll, rest.grants), False)
+            self.assertIsNone(alike_paper(rest, self.roll))
+        self.assertEqual(alike_paper(self.roll, layered_roll(ROWS)), ([], []))
+
+    def test_idle_grants(self):
+        # The last layer goes back to who had the right first.
+        back = [(57 + k, person(19), person(1), 1, 1) for k in range(3)]
+        core_grants = list(self.roll.grants[:57])
+        one = Roll('ann', grants=core_grants + back)
+        other = Roll('ann', grants=core_grants)
+        self.assertEqual(core(one), core_grants)
+        paper = alike_paper(one, other)
+        self.assertEqual([[grant for grant, _ in paper[0]], paper[1]], [back, []])
+        self.assertIsNone(check_alike(one, other, paper))
+        self.assertIsNone(same_under_revoking(one, other))
+        self.assertIs(separates(one, other, one.grants), False)
+
+    def test_standing_sets(self):
+        everything = list(self.roll.grants)
+        self.assertIs(is_standing(self.roll, everything), True)
+        for layer, row in enumerate(ROWS):
+            rest = [grant for grant in everything if grant not in row]
+            self.assertIs(is_standing(self.roll, rest), layer == 19)
+            self.assertEqual(standing_part(self.roll, rest), everything[:3 * layer])
+        check_error(self, TooMany, [lambda: standing_count(self.roll), lambda: standing_at(self.roll, 0),
+                                    lambda: standing_index(self.roll, []), lambda: build_orders(self.roll),
+                                    lambda: list(minimal_sets(self.roll, everything[0]))])
+
+    def test_two_rolls(self):
+        everything = list(self.roll.grants)
+        other = self.roll.only(everything[:57])
+        self.assertEqual(later_grant(self.roll, other, 'zoe'), (60, person(20), 'zoe', 1, 0))
+        self.assertEqual(same_under_adding(self.roll, other), ([], person(20), 57))
+        self.assertIs(adding_tells(self.roll, other, ([], person(20), 57)), True)
+        # Without the owner's grants nothing counts, until one such grant is added.
+        one, other = self.roll.only(everything[3:]), self.roll.only(everything[3:59])
+        added, name, at = same_under_adding(one, other.only(other.grants[:54]))
+        self.assertEqual(([grant[1:3] for grant in added], name, at), ([('ann', person(19))], person(20), 57))
+        for roll in (other, other.only(other.grants[:54]), one.only(one.grants[1:]), self.roll):
+            self.assertIs(always_tells(one, roll, same_always(one, roll)), True)
+        self.assertIs(adding_tells(one, Roll('ann'), (ROWS[0], person(20), 57)), True)
+        self.assertIs(adding_tells(one, Roll('ann'), (ROWS[1], person(20), 57)), False)
+        self.assertIs(always_tells(one, Roll('ann'), (ROWS[0], everything[::-1], person(20), 57)), True)
+        self.assertIs(always_tells(one, Roll('ann'), (ROWS[0], everything[3:], person(20), 57)), False)
+
+    def test_the_ledger(self):
+        ledger = Ledger('ann')
+        gives = [('give', *grant[1:]) for grant in self.roll.grants]
+        # All times are one more than those of the roll.
+        given = ledger.attempt(gives)
+        self.assertEqual(given, [(grant[0] + 1, *grant[1:]) for grant in self.roll.grants])
+        self.assertEqual(ledger.leave(person(10)), given[27:])
+        ledger.back()
+        for grant in given[30:33]:
+            gone = ledger.revoke(grant)
+        self.assertEqual(gone, given[32:])
+        for _ in range(4):
+            ledger.back()
+        self.assertEqual(len(ledger.roll), 0)
+        ledger.again()
+        self.assertEqual(ledger.roll.grants, tuple(given))
 
 
 class ManyEntriesTest(unittest.TestCase):
